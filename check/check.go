@@ -1,0 +1,47 @@
+// Package check: whether what is handed in may be.
+package check
+
+import (
+	"nearest/api"
+	"nearest/number"
+)
+
+// Measure tells whether there is such a measure.
+func Measure(measure int) bool {
+	return measure == api.Dot || measure == api.Square || measure == api.Angle
+}
+
+// Way tells whether there is such a way to sum up.
+func Way(way int) bool {
+	return way == api.Plain || way == api.Pairs || way == api.Kahan
+}
+
+// Vectors asks that all lists are vectors of the first one's dimension: of all of them first how many numbers they have (ErrDim), then which (ErrNumber).
+func Vectors(first []uint32, others ...[]uint32) api.Errno {
+	if len(first) < 1 || len(first) > api.MaxDim {
+		return api.ErrDim
+	}
+	for _, other := range others {
+		if len(other) != len(first) {
+			return api.ErrDim
+		}
+	}
+	if !allFinite(first) {
+		return api.ErrNumber
+	}
+	for _, other := range others {
+		if !allFinite(other) {
+			return api.ErrNumber
+		}
+	}
+	return api.OK
+}
+
+func allFinite(list []uint32) bool {
+	for _, bits := range list {
+		if !number.Finite(bits) {
+			return false
+		}
+	}
+	return true
+}

@@ -1,0 +1,41 @@
+// Package nearest: vectors, and which of them are nearest: see DOC.md.
+package nearest
+
+import (
+	"nearest/api"
+	"nearest/check"
+	"nearest/score"
+)
+
+// Store is collections of vectors.
+type Store struct{}
+
+// Score tells what the numbers of two vectors come to, rounded step by step (P3).
+func Score(measure int, way int, a []uint32, b []uint32) (uint32, bool, api.Errno) {
+	if !check.Measure(measure) || !check.Way(way) {
+		return 0, false, api.ErrKind
+	}
+	if e := check.Vectors(a, b); e != api.OK {
+		return 0, false, e
+	}
+	bits, overflows := score.Of(measure, way, a, b)
+	return bits, overflows, api.OK
+}
+
+// Compare tells which of two vectors is nearer to another (P4).
+func Compare(measure int, q []uint32, a []uint32, b []uint32) (int, api.Errno) { return 0, api.OK }
+
+// New makes an empty store (P5).
+func New() *Store { return nil }
+
+// Do does a request (P6).
+func (s *Store) Do(request string) string { return "" }
+
+// Journal tells all changes (P12).
+func (s *Store) Journal() (string, api.Errno) { return "", api.OK }
+
+// Snapshot tells all that there is (P13).
+func (s *Store) Snapshot() (string, api.Errno) { return "", api.OK }
+
+// Load takes a journal up (P14).
+func Load(journal string) (*Store, int) { return nil, 0 }
