@@ -45,3 +45,25 @@ func allFinite(list []uint32) bool {
 	}
 	return true
 }
+
+// Noughts asks that none of the lists is a nought vector, where angles are measured (ErrZero).
+func Noughts(measure int, lists ...[]uint32) api.Errno {
+	if measure != api.Angle {
+		return api.OK
+	}
+	for _, list := range lists {
+		if allNought(list) {
+			return api.ErrZero
+		}
+	}
+	return api.OK
+}
+
+func allNought(list []uint32) bool {
+	for _, bits := range list {
+		if !number.Nought(bits) {
+			return false
+		}
+	}
+	return true
+}

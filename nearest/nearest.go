@@ -4,6 +4,7 @@ package nearest
 import (
 	"nearest/api"
 	"nearest/check"
+	"nearest/order"
 	"nearest/score"
 )
 
@@ -23,7 +24,18 @@ func Score(measure int, way int, a []uint32, b []uint32) (uint32, bool, api.Errn
 }
 
 // Compare tells which of two vectors is nearer to another (P4).
-func Compare(measure int, q []uint32, a []uint32, b []uint32) (int, api.Errno) { return 0, api.OK }
+func Compare(measure int, q []uint32, a []uint32, b []uint32) (int, api.Errno) {
+	if !check.Measure(measure) {
+		return 0, api.ErrKind
+	}
+	if e := check.Vectors(q, a, b); e != api.OK {
+		return 0, e
+	}
+	if e := check.Noughts(measure, q, a, b); e != api.OK {
+		return 0, e
+	}
+	return order.Compare(measure, q, a, b), api.OK
+}
 
 // New makes an empty store (P5).
 func New() *Store { return nil }
