@@ -16,9 +16,14 @@ func Way(way int) bool {
 	return way == api.Plain || way == api.Pairs || way == api.Kahan
 }
 
+// Dimension tells whether there is such a dimension.
+func Dimension(dimension int) bool {
+	return dimension >= 1 && dimension <= api.MaxDim
+}
+
 // Vectors asks that all lists are vectors of the first one's dimension: of all of them first how many numbers they have (ErrDim), then which (ErrNumber).
 func Vectors(first []uint32, others ...[]uint32) api.Errno {
-	if len(first) < 1 || len(first) > api.MaxDim {
+	if !Dimension(len(first)) {
 		return api.ErrDim
 	}
 	for _, other := range others {
@@ -35,6 +40,14 @@ func Vectors(first []uint32, others ...[]uint32) api.Errno {
 		}
 	}
 	return api.OK
+}
+
+// Numbers asks that a list is a vector of that dimension: first how many numbers it has (ErrDim), then which (ErrNumber).
+func Numbers(dimension int, list []uint32) api.Errno {
+	if len(list) != dimension {
+		return api.ErrDim
+	}
+	return Vectors(list)
 }
 
 func allFinite(list []uint32) bool {

@@ -4,12 +4,14 @@ package nearest
 import (
 	"nearest/api"
 	"nearest/check"
+	"nearest/collection"
 	"nearest/order"
 	"nearest/score"
+	"nearest/wire"
 )
 
 // Store is collections of vectors.
-type Store struct{}
+type Store struct{ collections collection.Set }
 
 // Score tells what the numbers of two vectors come to, rounded step by step (P3).
 func Score(measure int, way int, a []uint32, b []uint32) (uint32, bool, api.Errno) {
@@ -38,10 +40,27 @@ func Compare(measure int, q []uint32, a []uint32, b []uint32) (int, api.Errno) {
 }
 
 // New makes an empty store (P5).
-func New() *Store { return nil }
+func New() *Store { return &Store{} }
 
 // Do does a request (P6).
-func (s *Store) Do(request string) string { return "" }
+func (s *Store) Do(request string) (answer string) {
+	if s == nil {
+		return refusal(api.ErrNil)
+	}
+	defer func() {
+		if given := recover(); given != nil {
+			if _, fault := given.(wire.Fault); !fault {
+				panic(given)
+			}
+			answer = refusal(api.ErrRequest)
+		}
+	}()
+	told, e := s.perform(wire.Read(request))
+	if e != api.OK {
+		return refusal(e)
+	}
+	return string(append([]byte{byte(api.OK)}, told...))
+}
 
 // Journal tells all changes (P12).
 func (s *Store) Journal() (string, api.Errno) { return "", api.OK }

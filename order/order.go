@@ -12,15 +12,36 @@ import (
 
 // Compare tells -1, if a is nearer to q than b; 1, if b is nearer than a; 0, if their real scores with q are the same. Measure and vectors have been checked.
 func Compare(measure int, q []uint32, a []uint32, b []uint32) int {
-	wq, wa, wb := whole(q), whole(a), whole(b)
+	return Of(measure, q, a).Compare(Of(measure, q, b))
+}
+
+// Nearness stands for a vector's real score with some q: top divided by bottom, which is above 0; the greater is nearer. It can be held against those by the same measure, with the same q.
+type Nearness struct{ top, bottom *big.Int }
+
+// Of tells how near v is to q. Measure and vectors have been checked.
+func Of(measure int, q []uint32, v []uint32) Nearness {
+	wq, wv := whole(q), whole(v)
 	switch measure {
 	case api.Square:
-		return distance(wq, wa).Cmp(distance(wq, wb))
+		far := distance(wq, wv)
+		return Nearness{far.Neg(far), big.NewInt(1)}
 	case api.Angle:
-		return compareCosines(wq, wb, wa)
+		return cosine(wq, wv)
 	default:
-		return product(wq, wb).Cmp(product(wq, wa))
+		return Nearness{product(wq, wv), big.NewInt(1)}
 	}
+}
+
+// Compare tells -1, if n is nearer than other; 1, if other is nearer than n; 0, if they are as near.
+func (n Nearness) Compare(other Nearness) int {
+	mine := new(big.Int).Mul(n.top, other.bottom)
+	others := new(big.Int).Mul(other.top, n.bottom)
+	return others.Cmp(mine)
+}
+
+// cosine needs no root: that of q's squares divides the cosines of all vectors with q, so it is left out; what is left is squared with its sign kept, which keeps the order.
+func cosine(q, v []*big.Int) Nearness {
+	return Nearness{signedSquare(product(q, v)), product(v, v)}
 }
 
 func whole(list []uint32) []*big.Int {
@@ -46,15 +67,6 @@ func distance(a, b []*big.Int) *big.Int {
 		sum.Add(sum, term.Mul(term, term))
 	}
 	return sum
-}
-
-// compareCosines tells the sign of the difference of a's cosine with q and b's. Neither roots nor quotients are needed: the root of q's squares divides both cosines, so it is left out; what is left is squared with its sign kept, which keeps the order, and multiplied by the squares of both a and b.
-func compareCosines(q, a, b []*big.Int) int {
-	left := signedSquare(product(q, a))
-	right := signedSquare(product(q, b))
-	left.Mul(left, product(b, b))
-	right.Mul(right, product(a, a))
-	return left.Cmp(right)
 }
 
 func signedSquare(x *big.Int) *big.Int {
