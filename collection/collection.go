@@ -3,6 +3,7 @@ package collection
 
 import (
 	"cmp"
+	"iter"
 	"slices"
 
 	"nearest/api"
@@ -37,6 +38,17 @@ func (c *Collection) numbers(v vector) []uint32 { return v[:c.Dimension] }
 
 // Len tells how many vectors there are.
 func (c *Collection) Len() int { return len(c.items) }
+
+// Vectors goes through the ids, rising, and the numbers of the vectors under them.
+func (c *Collection) Vectors() iter.Seq2[uint16, []uint32] {
+	return func(yield func(uint16, []uint32) bool) {
+		for _, it := range c.items {
+			if !yield(it.id, c.numbers(it.vector)) {
+				return
+			}
+		}
+	}
+}
 
 // place tells where the vector under that id stands, or would stand.
 func (c *Collection) place(id uint16) (int, bool) {

@@ -102,7 +102,7 @@ func TestDrawnRequests(t *testing.T) {
 	told, oneThing := map[byte]int{}, map[byte]int{api.Search: 7, api.Same: 2, api.List: 7}
 	for seed := range 60 {
 		d := &drawing{Rand: rand.New(rand.NewSource(int64(seed))), kind: seed % 7}
-		s, m := newStore(t), modelStore{}
+		s, m, j := newStore(t), modelStore{}, modelJournal("")
 		for range 400 {
 			request := d.request(m)
 			if d.Intn(15) == 0 {
@@ -111,6 +111,11 @@ func TestDrawnRequests(t *testing.T) {
 			want := m.do(request)
 			if got := s.Do(request); got != want {
 				t.Fatalf("Do(%x) = %x, want %x", request, got, want)
+			}
+			j.note(request, want)
+			if d.Intn(10) == 0 {
+				wantJournal(t, s, string(j))
+				wantSnapshot(t, s, m.snapshot())
 			}
 			answers[api.Errno(want[0])]++
 			if want[0] == 0 && len(want) > 1+oneThing[request[0]] {

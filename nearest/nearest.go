@@ -6,12 +6,16 @@ import (
 	"nearest/check"
 	"nearest/collection"
 	"nearest/order"
+	"nearest/record"
 	"nearest/score"
 	"nearest/wire"
 )
 
-// Store is collections of vectors.
-type Store struct{ collections collection.Set }
+// Store is collections of vectors, and the journal of what made them.
+type Store struct {
+	collections collection.Set
+	journal     []byte
+}
 
 // Score tells what the numbers of two vectors come to, rounded step by step (P3).
 func Score(measure int, way int, a []uint32, b []uint32) (uint32, bool, api.Errno) {
@@ -55,18 +59,37 @@ func (s *Store) Do(request string) (answer string) {
 			answer = refusal(api.ErrRequest)
 		}
 	}()
-	told, e := s.perform(wire.Read(request))
+	q := wire.Read(request)
+	told, e := s.perform(q)
 	if e != api.OK {
 		return refusal(e)
+	}
+	if changes(q.Kind) {
+		s.journal = append(s.journal, record.Of(request)...)
 	}
 	return string(append([]byte{byte(api.OK)}, told...))
 }
 
 // Journal tells all changes (P12).
-func (s *Store) Journal() (string, api.Errno) { return "", api.OK }
+func (s *Store) Journal() (string, api.Errno) {
+	if s == nil {
+		return "", api.ErrNil
+	}
+	return string(s.journal), api.OK
+}
 
 // Snapshot tells all that there is (P13).
-func (s *Store) Snapshot() (string, api.Errno) { return "", api.OK }
+func (s *Store) Snapshot() (string, api.Errno) {
+	if s == nil {
+		return "", api.ErrNil
+	}
+	return writeAnew(s.collections.All()), api.OK
+}
 
-// Load takes a journal up (P14).
-func Load(journal string) (*Store, int) { return nil, 0 }
+// Load takes a journal up (P14). What is taken up stands in the store's journal, byte for byte, so that one's length is how far it has come.
+func Load(journal string) (*Store, int) {
+	s := New()
+	for s.takeUp(journal[len(s.journal):]) {
+	}
+	return s, len(s.journal)
+}

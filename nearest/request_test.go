@@ -100,18 +100,25 @@ func wantError(t *testing.T, s *nearest.Store, e api.Errno, requests ...string) 
 	}
 }
 
-// view is what a store answers of its collections, and of the ids that these tests take.
+// view is all that a store tells of itself: what is there, and how it came to be.
 func view(s *nearest.Store) string {
-	told := s.Do(list)
+	journal, _ := s.Journal()
+	snapshot, _ := s.Snapshot()
+	return contents(s.Do) + "/" + snapshot + "/" + journal
+}
+
+// contents is what a store answers of its collections, and of the ids that these tests take.
+func contents(do func(string) string) string {
+	told := do(list)
 	out := told
 	for left := told[1:]; left != ""; {
 		end := 1 + int(left[0])
 		name := left[1:end]
 		for id := range 32 {
-			out += "/" + s.Do(get(name, id))
+			out += "/" + do(get(name, id))
 		}
 		for _, id := range []int{255, 256, 257, 0x8000, 0xffff} {
-			out += "/" + s.Do(get(name, id))
+			out += "/" + do(get(name, id))
 		}
 		left = left[end+4:]
 	}
